@@ -1,0 +1,1 @@
+"""Hungwords: words of a row hung on one another."""

@@ -1,0 +1,151 @@
+"""The package keeps to LANGUAGE.md: those of its rules that are plainly seen in the files."""
+
+import ast
+import builtins
+import pathlib
+import re
+import unittest
+
+PACKAGE = pathlib.Path(__file__).resolve().parent.parent / "hungwords"
+FILES = sorted(PACKAGE.glob("*.py"))
+
+NODES = set("""
+    Module Expr Constant ImportFrom alias FunctionDef ClassDef arguments arg Name Load Store Del Attribute Subscript
+    Slice Call keyword Return Assign AugAssign If While For Break Continue Pass Raise Try ExceptHandler Assert Delete
+    BinOp Add Sub Mult FloorDiv Mod Pow LShift RShift BitAnd BitOr BitXor UnaryOp USub Not BoolOp And Or Compare Eq
+    NotEq Lt LtE Gt GtE Is IsNot In NotIn IfExp Lambda List Tuple Dict Set ListComp DictComp SetComp comprehension
+    JoinedStr FormattedValue
+""".split())
+PYTHONS = set("""
+    len range enumerate zip min max sum abs sorted reversed int str bool bytes list tuple dict set isinstance ord repr
+    any all divmod Exception ValueError TypeError KeyError IndexError LookupError ZeroDivisionError ArithmeticError
+    OverflowError RuntimeError NotImplementedError AttributeError StopIteration
+""".split())
+METHODS = set("""
+    append clear copy count endswith extend find get index insert isalnum isalpha isdigit islower isspace isupper items
+    join keys ljust lower lstrip partition pop remove replace reverse rfind rjust rpartition rsplit rstrip setdefault
+    split splitlines startswith strip update upper values zfill bit_length add discard sort
+""".split())
+NOT_WRITTEN = re.compile(
+    r"\b(type|typing|typing_extensions|enum|Enum|IntEnum|StrEnum|Flag|IntFlag|Generic|Protocol|ABC|ABCMeta|namedtuple"
+    r"|NamedTuple|TypedDict|TYPE_CHECKING|abstractmethod)\b|dataclass|overload|contextmanager"
+)
+NOT_NAMED = set("""
+    register mro elements open input version_info with_traceback add_note attrgetter breakpoint builtins compile
+    copyright credits delattr dir eval exec exit gc getattr globals hasattr help id importlib license locals
+    methodcaller os quit setattr super sys vars format format_map
+""".split())
+PLAIN_NAME = re.compile(r"[A-Za-z][A-Za-z0-9_]*\Z")
+
+
+def parsed(path):
+    return ast.parse(path.read_text(encoding="utf-8"))
+
+
+def nodes(kind):
+    for path in FILES:
+        for node in ast.walk(parsed(path)):
+            if isinstance(node, kind):
+                yield path.name, node
+
+
+def bound_names(tree):
+    """The names that a file binds, at its top or within: defs, classes, parameters, locals, drawn ones."""
+    found = set()
+    for node in ast.walk(tree):
+        if isinstance(node, (ast.FunctionDef, ast.ClassDef)):
+            found.add(node.name)
+        elif isinstance(node, ast.arg):
+            found.add(node.arg)
+        elif isinstance(node, ast.Name) and isinstance(node.ctx, ast.Store):
+            found.add(node.id)
+        elif isinstance(node, ast.alias):
+            found.add(node.asname or node.name)
+        elif isinstance(node, ast.ExceptHandler) and node.name:
+            found.add(node.name)
+    return found
+
+
+def methods_and_values():
+    """The names of all methods, and of all values that are given to an object, in the package."""
+    methods, values = set(), set()
+    for _, node in nodes(ast.ClassDef):
+        methods |= {part.name for part in node.body if isinstance(part, ast.FunctionDef)}
+    for _, node in nodes(ast.Attribute):
+        if isinstance(node.ctx, ast.Store):
+            values.add(node.attr)
+    return methods, values
+
+
+class LanguageTest(unittest.TestCase):
+    def test_files(self):
+        others = [path for path in PACKAGE.iterdir() if path not in FILES and path.name != "__pycache__"]
+        self.assertEqual(others, [])
+        for path in FILES:
+            self.assertRegex(path.name, r"\A([a-z][a-z0-9_]*|__init__)\.py\Z")
+
+    def test_signs_sizes_and_words(self):
+        for path in FILES:
+            text = path.read_text(encoding="utf-8")
+            self.assertRegex(text, r"\A[ -~\n]*\Z", path.name)
+            self.assertIsNone(NOT_WRITTEN.search(text), path.name)
+            self.assertLessEqual(len(text.splitlines()), 400)
+            self.assertLessEqual(max(len(row) for row in text.splitlines()), 120)
+        for name, node in nodes(ast.FunctionDef):
+            self.assertLessEqual(node.end_lineno - node.lineno + 1, 40, (name, node.name))
+
+    def test_statements_and_expressions(self):
+        for name, node in nodes(ast.AST):
+            self.assertIn(node.__class__.__name__, NODES, (name, getattr(node, "lineno", None)))
+            if isinstance(node, ast.Constant):
+                self.assertNotIsInstance(node.value, (float, complex))
+            if isinstance(node, (ast.For, ast.While)):
+                self.assertEqual(node.orelse, [])
+            if isinstance(node, (ast.FunctionDef, ast.ClassDef)):
+                self.assertEqual(node.decorator_list, [])
+            if isinstance(node, ast.arguments):
+                self.assertEqual((node.vararg, node.kwarg, node.posonlyargs), (None, None, []))
+
+    def test_imports(self):
+        for name, node in nodes(ast.ImportFrom):
+            self.assertEqual(node.level, 0, name)
+            source = PACKAGE / (node.module.removeprefix("hungwords.") + ".py")
+            own = {part.name for part in parsed(source).body if isinstance(part, (ast.FunctionDef, ast.ClassDef))}
+            for drawn in node.names:
+                self.assertIn(drawn.name, own, name)
+
+    def test_names(self):
+        pythons = set(dir(builtins))
+        for path in FILES:
+            tree = parsed(path)
+            bound = bound_names(tree)
+            for name in bound - {"__init__"}:
+                self.assertRegex(name, PLAIN_NAME, path.name)
+                self.assertNotIn(name, pythons | NOT_NAMED, path.name)
+            for node in ast.walk(tree):
+                if isinstance(node, ast.Name):
+                    self.assertTrue(node.id in bound or node.id in PYTHONS, (path.name, node.id, node.lineno))
+
+    def test_methods_and_values(self):
+        methods, values = methods_and_values()
+        self.assertEqual(methods & values, set())
+        for name, node in nodes(ast.Attribute):
+            self.assertIn(node.attr, methods | values | METHODS, (name, node.lineno))
+        for own in (methods | values) - {"__init__"}:
+            self.assertRegex(own, PLAIN_NAME)
+            self.assertNotIn(own, NOT_NAMED)
+            for python in (str, int, list, dict, set, bytes, tuple):
+                self.assertFalse(hasattr(python, own), own)
+
+    def test_is_stands_beside_none_true_and_false_alone(self):
+        for name, node in nodes(ast.Compare):
+            for sign, right in zip(node.ops, node.comparators):
+                if isinstance(sign, (ast.Is, ast.IsNot)):
+                    self.assertIsInstance(right, ast.Constant, (name, node.lineno))
+                    self.assertIn(repr(right.value), ("None", "True", "False"))
+
+    def test_exponents_are_written(self):
+        for name, node in nodes(ast.BinOp):
+            if isinstance(node.op, ast.Pow):
+                self.assertIsInstance(node.right, ast.Constant, (name, node.lineno))
+                self.assertIn(node.right.value, range(65))

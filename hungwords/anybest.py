@@ -5,7 +5,7 @@ all such entries are lowered by it. Groups that so hang on one another in a ring
 ring, the entries taken make the best hanging, and what was lowered makes the paper that shows it.
 """
 
-from hungwords.worths import worth_of
+from hungwords.worths import ranked, worth_of
 
 
 def best_any(w):
@@ -55,21 +55,6 @@ def paper_any(w):
     h, hook, groups, bests = solved
     sets = [(group, -best) for group, best in zip(groups, bests) if len(group) > 1]
     return hook, bests[:len(w)], sets
-
-
-def ranked(w):
-    """A table by which, of hangings of like worth, the lesser one is of more worth.
-
-    The hanging, read as a number by its figures, is taken off; worths are spread so far that it outweighs none.
-    """
-    units = [1]
-    for word in w:
-        units.append(units[-1] * (len(w) + 1))
-    units.reverse()
-    return tuple([
-        tuple([None if worth is None else worth * units[0] - on * units[word] for on, worth in enumerate(row)])
-        for word, row in enumerate(w, start=1)
-    ])
 
 
 def solve(w):

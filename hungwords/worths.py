@@ -1,34 +1,35 @@
 """Worth tables: what it is worth that a word hangs on another one, None where it may not."""
 
-from hungwords.checks import is_number
+from hungwords.checks import is_laid_out, is_number
 
 
 def is_table(thing):
     """Whether thing is a worth table, of any many words, with numbers of any size."""
-    if not isinstance(thing, tuple) or len(thing) == 0:
+    if not is_laid_out(thing):
         return False
-    for word, row in enumerate(thing, start=1):
-        if not is_row(row, word, len(thing)):
-            return False
-    return True
+    return all([is_row(row, word) for word, row in enumerate(thing, start=1)])
 
 
-def is_row(thing, word, many):
-    """Whether thing is the row of a word in a worth table of so many words."""
-    if not isinstance(thing, tuple) or len(thing) != many + 1:
-        return False
-    for entry in thing:
-        if entry is not None and not is_number(entry):
-            return False
-    return thing[word] is None
+def is_row(row, word):
+    """Whether a tuple of as many entries as are due is the row of that word."""
+    return row[word] is None and all([entry is None or is_number(entry) for entry in row])
+
+
+def together(worths):
+    """The sum of a list of worths, None where one of them is None."""
+    if None in worths:
+        return None
+    return sum(worths)
+
+
+def greatest(worths):
+    """The greatest of a list of worths, None being less than all numbers; None where there is none."""
+    return max([worth for worth in worths if worth is not None], default=None)
 
 
 def worth_of(w, h):
     """The worths of all words of h together, None where one may not hang so."""
-    worths = [row[on] for row, on in zip(w, h)]
-    if None in worths:
-        return None
-    return sum(worths)
+    return together([row[on] for row, on in zip(w, h)])
 
 
 def without(w, word, on):
@@ -46,3 +47,34 @@ def alone(w, word, on):
 def with_row(w, word, row):
     """The table with another row for that word."""
     return w[:word - 1] + (row,) + w[word:]
+
+
+def ranked(w):
+    """A table by which, of hangings of like worth, the lesser one is of more worth.
+
+    The hanging, read as a number by its figures, is taken off; worths are spread so far that it outweighs none.
+    """
+    scale = units(len(w) + 1, len(w))
+    return tuple([
+        tuple([None if worth is None else worth * scale[0] - on * scale[word] for on, worth in enumerate(row)])
+        for word, row in enumerate(w, start=1)
+    ])
+
+
+def units(base, many):
+    """The list of what 1 is worth at each place of a number of so many figures, ahead of them at one place more."""
+    scale = [1]
+    for place in range(many):
+        scale.append(scale[-1] * base)
+    scale.reverse()
+    return scale
+
+
+def figures(number, base, many):
+    """The list of the last so many figures of a number, the highest first."""
+    found = []
+    for place in range(many):
+        number, figure = divmod(number, base)
+        found.append(figure)
+    found.reverse()
+    return found

@@ -94,3 +94,56 @@ def at_way(thing, way):
 def other_kind(thing):
     """A tuple for a list, a list for a tuple."""
     return tuple(thing) if isinstance(thing, list) else list(thing)
+
+
+def tie_by_words(h, word):
+    """A word's tie, by the words of the document."""
+    on = h[word - 1]
+    return (word, on) if word < on else (on, word)
+
+
+def crossings_gone_through(h):
+    """The rising list of all pairs of ties that cross, by the words of the document."""
+    ties = [tie_by_words(h, word) for word in range(1, len(h) + 1)]
+    return sorted(
+        ((a, b), (c, d)) for (a, b), (c, d) in itertools.product(ties, repeat=2) if a < c < b < d
+    )
+
+
+def plain_gone_through(n):
+    """The rising list of all plain hangings of n words."""
+    return [h for h in hangings_gone_through(n) if not crossings_gone_through(h)]
+
+
+def some_factors(seed, n, high, noughts):
+    """A factor table by a seed, with factors to high, about so many of a hundred entries 0."""
+    table = some_table(seed, n, 1, high, noughts)
+    return tuple(tuple(0 if factor is None else factor for factor in row) for row in table)
+
+
+def even_factors(n, factor):
+    """The factor table of n words with one factor for all entries but own ones."""
+    return tuple(tuple(0 if on == word else factor for on in range(n + 1)) for word in range(1, n + 1))
+
+
+def multiplied_out(f, h):
+    """The product of the factors of all words of h."""
+    result = 1
+    for at, on in enumerate(h):
+        result *= f[at][on]
+    return result
+
+
+def some_plain(seed, n):
+    """A plain hanging of n words by a seed: each stretch has a top, and its rest falls apart into stretches."""
+    chance = random.Random(seed)
+    ons = [0] * n
+    waiting = [(1, n, 0)]
+    while waiting:
+        low, high, on = waiting.pop()
+        if low <= high:
+            top = chance.randint(low, high)
+            ons[top - 1] = on
+            at, to = chance.randint(low, top), chance.randint(top, high)
+            waiting += [(low, at - 1, top), (at, top - 1, top), (top + 1, to, top), (to + 1, high, top)]
+    return tuple(ons)

@@ -5,6 +5,7 @@ import unittest
 
 from hungwords.books import Book
 from hungwords.errors import HangError, NoEntry, NoHanging
+from hungwords.sums import is_factors
 from hungwords.worths import is_table
 from tests.helper import some_hanging
 
@@ -281,6 +282,7 @@ class ManyChangesTest(unittest.TestCase):
     def checked(self, book):
         self.assertEqual(told(put_anew(book))[1:], told(book)[1:])
         self.assertTrue(is_table(book.table_for(NAMES)))
+        self.assertTrue(is_factors(book.factors_for(NAMES)))
         for name in NAMES:
             for on in [""] + NAMES:
                 self.assertEqual(book.often(name, on), counted(book, name, on))

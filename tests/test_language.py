@@ -36,6 +36,14 @@ NOT_NAMED = set("""
     methodcaller os quit setattr super sys vars format format_map
 """.split())
 PLAIN_NAME = re.compile(r"[A-Za-z][A-Za-z0-9_]*\Z")
+# What makes no list of its own, and those that may be handed it.
+WALKED = {"zip", "enumerate", "reversed", "range", "items", "keys", "values"}
+WALKERS = {"list", "tuple", "dict", "sorted", "sum", "any", "all", "enumerate", "zip", "min", "max"}
+
+
+def called(node):
+    """The name of what is called, or of the method."""
+    return getattr(node.func, "id", getattr(node.func, "attr", None))
 
 
 def parsed(path):
@@ -143,6 +151,46 @@ class LanguageTest(unittest.TestCase):
                 if isinstance(sign, (ast.Is, ast.IsNot)):
                     self.assertIsInstance(right, ast.Constant, (name, node.lineno))
                     self.assertIn(repr(right.value), ("None", "True", "False"))
+
+    def test_what_is_walked_at_once(self):
+        for path in FILES:
+            tree = parsed(path)
+            walked = set()
+            for node in ast.walk(tree):
+                if isinstance(node, (ast.For, ast.comprehension)):
+                    walked.add(node.iter)
+                elif isinstance(node, ast.Call) and isinstance(node.func, ast.Name) and node.func.id in WALKERS:
+                    walked |= set(node.args if node.func.id == "zip" else node.args[:1])
+                elif isinstance(node, ast.Call) and called(node) == "reversed":
+                    walked |= {part for part in node.args if isinstance(part, ast.Call) and called(part) == "range"}
+                elif isinstance(node, ast.Compare) and isinstance(node.ops[0], (ast.In, ast.NotIn)):
+                    walked |= set(node.comparators)
+            for node in ast.walk(tree):
+                if isinstance(node, ast.Call) and called(node) in WALKED:
+                    self.assertTrue(node in walked, (path.name, node.lineno))
+
+    def test_no_parameter_or_local_is_called_like_an_import_or_a_class(self):
+        for path in FILES:
+            tree = parsed(path)
+            taken = {part.asname or part.name for node in tree.body if isinstance(node, ast.ImportFrom)
+                     for part in node.names}
+            taken |= {node.name for node in tree.body if isinstance(node, ast.ClassDef)}
+            for node in ast.walk(tree):
+                if isinstance(node, ast.arg):
+                    self.assertNotIn(node.arg, taken, path.name)
+                elif isinstance(node, ast.Name) and isinstance(node.ctx, ast.Store):
+                    self.assertNotIn(node.id, taken, path.name)
+
+    def test_no_two_files_draw_from_one_another(self):
+        drawn = {}
+        for path in FILES:
+            names = [node.module for node in ast.walk(parsed(path)) if isinstance(node, ast.ImportFrom)]
+            drawn[path.stem] = {name.removeprefix("hungwords.") for name in names}
+        while drawn:
+            free = [name for name, others in drawn.items() if not others & set(drawn)]
+            self.assertNotEqual(free, [], sorted(drawn))
+            for name in free:
+                del drawn[name]
 
     def test_exponents_are_written(self):
         for name, node in nodes(ast.BinOp):

@@ -49,7 +49,7 @@ def best_kinds(t, limits):
     total = best_total(spread(t, names, scale), limits)
     if total is None:
         return None
-    numbers = figures(-total % scale[0], base, 2 * len(t))
+    numbers = figures(-total, base, 2 * len(t))
     h = tuple(numbers[:len(t)])
     kinds = tuple([names[number] for number in numbers[len(t):]])
     return kinds_worth(t, h, kinds), h, kinds

@@ -4,6 +4,24 @@ How parts are joined, and what is made of all ways, is handed in: worths are add
 are multiplied and summed. Each way to hang the words comes about just once, so that it counts once in a sum.
 """
 
+from hungwords.worths import figures, greatest, ranked, together, worth_of
+
+
+def spans(w):
+    """The rising list of the tuples (i, j, right, right_tied, left, left_tied) of all words i < j."""
+    right, right_tied, left, left_tied = fill(w, together, greatest)
+    return [pair + (right[pair], right_tied[pair], left[pair], left_tied[pair]) for pair in sorted(right_tied)]
+
+
+def best_plain(w):
+    """The pair (worth, h) of the plain hanging of the greatest worth, of several the least; None where none may be."""
+    total = over_all(ranked(w), together, greatest)
+    if total is None:
+        return None
+    # What was taken off the worths, to rank like ones, are the figures of the hanging itself.
+    h = tuple(figures(-total, len(w) + 1, len(w)))
+    return worth_of(w, h), h
+
 
 def fill(w, joined, chosen):
     """The tuple of four dicts by pairs of words, the lesser first: right, right_tied, left, left_tied."""

@@ -71,7 +71,10 @@ def units(base, many):
 
 
 def figures(number, base, many):
-    """The list of the last so many figures of a number, the highest first."""
+    """The list of the last so many figures of a number, the highest first.
+
+    What lies ahead of these doesn't count, a minus neither: taking off a number of which they are noughts is the same.
+    """
     found = []
     for place in range(many):
         number, figure = divmod(number, base)

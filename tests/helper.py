@@ -3,6 +3,10 @@
 import itertools
 import random
 
+STEPS = ["read", "next", "under"]
+OTHER_STEPS = [
+    "", "Read", "READ", " read", "read ", "nex", "nextt", "back", "unde", "reads", "read\n", "ready", "0",
+]
 WRONG_NUMBERS = [True, False, "", "1", "a", [], (), [1], (1,), [[1]], ((0,),), (None,), ((((((((1,),),),),),),),)]
 WRONG_THINGS = [
     None, True, False, 0, 1, -1, 10 ** 30, "", "0", "abc", "(0,)", [], (), [[]], ((),), [()], ([],), (None,),
@@ -27,14 +31,21 @@ def hangings_gone_through(n):
     ]
 
 
+def worth_by_words(w, h):
+    """The worths of all words together, None where one is None."""
+    worths = [w[at][on] for at, on in enumerate(h)]
+    return None if None in worths else sum(worths)
+
+
+def ranked_by_words(w, hangings):
+    """All pairs (worth, h) of those of the hangings that may be, those of more worth ahead, like ones rising."""
+    pairs = [(worth_by_words(w, h), h) for h in hangings]
+    return sorted([pair for pair in pairs if pair[0] is not None], key=lambda pair: (-pair[0], pair[1]))
+
+
 def in_order(w):
     """All pairs (worth, h) that may be, those of more worth ahead, like ones rising."""
-    pairs = []
-    for h in hangings_gone_through(len(w)):
-        worths = [w[at][on] for at, on in enumerate(h)]
-        if None not in worths:
-            pairs.append((sum(worths), h))
-    return sorted(pairs, key=lambda pair: (-pair[0], pair[1]))
+    return ranked_by_words(w, hangings_gone_through(len(w)))
 
 
 def some_table(seed, n, low, high, barred):
@@ -147,3 +158,84 @@ def some_plain(seed, n):
             at, to = chance.randint(low, top), chance.randint(top, high)
             waiting += [(low, at - 1, top), (at, top - 1, top), (top + 1, to, top), (to + 1, high, top)]
     return tuple(ons)
+
+
+PLAIN = {n: plain_gone_through(n) for n in range(1, 7)}
+
+
+def plain_in_order(w):
+    """All pairs (worth, h) of plain hangings that may be, those of more worth ahead, like ones rising."""
+    return ranked_by_words(w, PLAIN[len(w)])
+
+
+class Walk:
+    """A reader by the words of the document, with lists that are changed."""
+
+    def __init__(self, n, steps=()):
+        self.n, self.pile, self.at, self.ons = n, [], 1, {}
+        for word in steps:
+            self.do(word)
+
+    def may(self):
+        can = {"read": self.at <= self.n, "next": self.at <= self.n and self.pile != [], "under": len(self.pile) >= 2}
+        return [word for word in STEPS if can[word]]
+
+    def do(self, word):
+        if word == "read":
+            self.pile.append(self.at)
+            self.at += 1
+        else:
+            high = self.pile.pop()
+            self.ons[high] = self.at if word == "next" else self.pile[-1]
+
+    def stand(self):
+        return tuple(self.pile), self.at, tuple(self.ons.get(word) for word in range(1, self.n + 1))
+
+    def hanging(self):
+        if self.at <= self.n or len(self.pile) != 1:
+            return None
+        return tuple(self.ons.get(word, 0) for word in range(1, self.n + 1))
+
+
+def all_step_lists(n):
+    """All lists of steps that can be done, the empty one too."""
+    found, waiting = [], [[]]
+    while waiting:
+        steps = waiting.pop()
+        found.append(steps)
+        waiting += [steps + [word] for word in Walk(n, steps).may()]
+    return found
+
+
+def word_towards(h, stand):
+    """The step that leads on to h: a word goes from the pile as soon as all that hang on it are hung."""
+    pile, at, ons = stand
+    if pile:
+        high = pile[-1]
+        if h[high - 1] == at:
+            return "next"
+        hung = all(ons[word - 1] == high for word in range(1, len(h) + 1) if h[word - 1] == high)
+        if len(pile) > 1 and h[high - 1] == pile[-2] and hung:
+            return "under"
+    return "read"
+
+
+def stands_gone_through(n):
+    """All stands of readers of n words, each with a list of steps that leads to it, those of fewer steps ahead."""
+    found, waiting = {}, [[]]
+    for steps in waiting:
+        walk = Walk(n, steps)
+        if walk.stand() not in found:
+            found[walk.stand()] = steps
+            waiting += [steps + [word] for word in walk.may()]
+    return found
+
+
+def come_to_from(n):
+    """For each stand of readers of n words the rising list of the hangings to which some steps lead from it."""
+    found = {}
+    for stand, steps in reversed(stands_gone_through(n).items()):
+        walk = Walk(n, steps)
+        done = set() if walk.hanging() is None else {walk.hanging()}
+        found[stand] = sorted(done.union(*[found[Walk(n, steps + [word]).stand()] for word in walk.may()]))
+    return found

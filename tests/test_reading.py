@@ -5,39 +5,7 @@ import unittest
 
 from hungwords.errors import HangError, NoStep
 from hungwords.reading import Reader
-from tests.helper import plain_gone_through, some_plain
-
-STEPS = ["read", "next", "under"]
-OTHERS = ["", "Read", "READ", " read", "read ", "nex", "nextt", "back", "unde", "reads", "read\n", "ready", "0"]
-
-
-class Walk:
-    """A reader by the words of the document, with lists that are changed."""
-
-    def __init__(self, n, steps=()):
-        self.n, self.pile, self.at, self.ons = n, [], 1, {}
-        for word in steps:
-            self.do(word)
-
-    def may(self):
-        can = {"read": self.at <= self.n, "next": self.at <= self.n and self.pile != [], "under": len(self.pile) >= 2}
-        return [word for word in STEPS if can[word]]
-
-    def do(self, word):
-        if word == "read":
-            self.pile.append(self.at)
-            self.at += 1
-        else:
-            high = self.pile.pop()
-            self.ons[high] = self.at if word == "next" else self.pile[-1]
-
-    def stand(self):
-        return tuple(self.pile), self.at, tuple(self.ons.get(word) for word in range(1, self.n + 1))
-
-    def hanging(self):
-        if self.at <= self.n or len(self.pile) != 1:
-            return None
-        return tuple(self.ons.get(word, 0) for word in range(1, self.n + 1))
+from tests.helper import OTHER_STEPS, STEPS, Walk, all_step_lists, plain_gone_through, some_plain, word_towards
 
 
 def led(n, steps):
@@ -45,16 +13,6 @@ def led(n, steps):
     for word in steps:
         reader.step(word)
     return reader
-
-
-def all_step_lists(n):
-    """All lists of steps that can be done, the empty one too."""
-    found, waiting = [], [[]]
-    while waiting:
-        steps = waiting.pop()
-        found.append(steps)
-        waiting += [steps + [word] for word in Walk(n, steps).may()]
-    return found
 
 
 def told(reader):
@@ -96,7 +54,7 @@ class ReaderTest(unittest.TestCase):
         self.assertIs(reader.is_done(), False)
         reader.step("read")
         self.assertEqual(told(reader), ([], ((1,), 2, (None,)), True, (0,), ["read"]))
-        for word in STEPS + OTHERS:
+        for word in STEPS + OTHER_STEPS:
             self.refused(reader, word)
 
     def test_not_done_with_two_on_the_pile_or_words_ahead(self):
@@ -123,7 +81,7 @@ class ReaderTest(unittest.TestCase):
 
     def test_any_other_text(self):
         for steps in [[], ["read"], ["read", "read"], ["read", "read", "read", "under", "under"]]:
-            for word in OTHERS:
+            for word in OTHER_STEPS:
                 self.refused(led(3, steps), word)
 
     def test_place_counts_the_steps_that_stand(self):
@@ -173,19 +131,6 @@ class ReaderTest(unittest.TestCase):
         other.step("read")
         other.step("next")
         self.assertEqual(one.stand(), ((1,), 2, (None, None)))
-
-
-def word_towards(h, stand):
-    """The step that leads on to h: a word goes from the pile as soon as all that hang on it are hung."""
-    pile, at, ons = stand
-    if pile:
-        high = pile[-1]
-        if h[high - 1] == at:
-            return "next"
-        hung = all(ons[word - 1] == high for word in range(1, len(h) + 1) if h[word - 1] == high)
-        if len(pile) > 1 and h[high - 1] == pile[-2] and hung:
-            return "under"
-    return "read"
 
 
 class BackTest(unittest.TestCase):

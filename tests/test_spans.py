@@ -7,21 +7,8 @@ from hungwords.kinds import best_kinds
 from hungwords.spans import best_plain, spans
 from hungwords.worths import worth_of
 from tests.helper import (
-    crossings_gone_through, even_table, in_order, plain_gone_through, put_at, some_hanging, some_plain, some_table,
+    PLAIN, crossings_gone_through, even_table, in_order, plain_in_order, put_at, some_hanging, some_plain, some_table,
 )
-
-PLAIN = {n: plain_gone_through(n) for n in range(1, 7)}
-
-
-def plain_in_order(w):
-    """All pairs (worth, h) of plain hangings that may be, those of more worth ahead, like ones rising."""
-    pairs = [(worth_by_words(w, h), h) for h in PLAIN[len(w)]]
-    return sorted([pair for pair in pairs if pair[0] is not None], key=lambda pair: (-pair[0], pair[1]))
-
-
-def worth_by_words(w, h):
-    worths = [w[at][on] for at, on in enumerate(h)]
-    return None if None in worths else sum(worths)
 
 
 def span_due(w, low, high, top, tied):

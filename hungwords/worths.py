@@ -34,14 +34,19 @@ def worth_of(w, h):
 
 def without(w, word, on):
     """The table with None for that word on that one."""
-    row = w[word - 1]
-    return with_row(w, word, row[:on] + (None,) + row[on + 1:])
+    return with_entry(w, word, on, None)
 
 
 def alone(w, word, on):
     """The table with None for all other entries of that word."""
     row = [entry if at == on else None for at, entry in enumerate(w[word - 1])]
     return with_row(w, word, tuple(row))
+
+
+def with_entry(w, word, on, entry):
+    """The table with another entry for that word on that one."""
+    row = w[word - 1]
+    return with_row(w, word, row[:on] + (entry,) + row[on + 1:])
 
 
 def with_row(w, word, row):

@@ -74,6 +74,12 @@ def bound_names(tree):
     return found
 
 
+def own_names(tree):
+    """The names of a file's top that it gives itself."""
+    found = [part.name for part in tree.body if isinstance(part, (ast.FunctionDef, ast.ClassDef))]
+    return found + [part.targets[0].id for part in tree.body if isinstance(part, ast.Assign)]
+
+
 def methods_and_values():
     """The names of all methods, and of all values that are given to an object, in the package."""
     methods, values = set(), set()
@@ -118,9 +124,27 @@ class LanguageTest(unittest.TestCase):
         for name, node in nodes(ast.ImportFrom):
             self.assertEqual(node.level, 0, name)
             source = PACKAGE / (node.module.removeprefix("hungwords.") + ".py")
-            own = {part.name for part in parsed(source).body if isinstance(part, (ast.FunctionDef, ast.ClassDef))}
             for drawn in node.names:
-                self.assertIn(drawn.name, own, name)
+                self.assertIn(drawn.name, own_names(parsed(source)), name)
+
+    def test_the_top_of_a_file(self):
+        for path in FILES:
+            tree = parsed(path)
+            self.assertEqual(len(own_names(tree)), len(set(own_names(tree))), path.name)
+            defs = set()
+            for at, part in enumerate(tree.body):
+                if isinstance(part, ast.FunctionDef):
+                    defs.add(part.name)
+                elif isinstance(part, ast.Assign):
+                    self.assertEqual([target.__class__ for target in part.targets], [ast.Name], path.name)
+                    for node in ast.walk(part.value):
+                        self.assertIsInstance(node, (ast.Constant, ast.Dict, ast.Tuple, ast.List, ast.Name, ast.Load))
+                        self.assertTrue(not isinstance(node, ast.Name) or node.id in defs, path.name)
+                        # No list or dict holds another one.
+                        within = list(ast.iter_child_nodes(node)) if isinstance(node, (ast.Dict, ast.List)) else []
+                        self.assertFalse(any(isinstance(inner, (ast.Dict, ast.List)) for inner in within))
+                elif not isinstance(part, (ast.ImportFrom, ast.ClassDef)):
+                    self.assertEqual((at, ast.get_docstring(tree, clean=False)), (0, part.value.value), path.name)
 
     def test_names(self):
         pythons = set(dir(builtins))

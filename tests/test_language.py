@@ -221,3 +221,40 @@ class LanguageTest(unittest.TestCase):
             if isinstance(node.op, ast.Pow):
                 self.assertIsInstance(node.right, ast.Constant, (name, node.lineno))
                 self.assertIn(node.right.value, range(65))
+
+    def test_errors_are_the_programs_own(self):
+        own = own_names(parsed(PACKAGE / "errors.py"))
+        for name, node in nodes(ast.Raise):
+            self.assertIsInstance(node.exc, ast.Call, (name, node.lineno))
+            self.assertIn(called(node.exc), own, (name, node.lineno))
+        for name, node in nodes(ast.ExceptHandler):
+            self.assertIn(node.type.id, own, (name, node.lineno))
+
+    def test_sets_are_not_walked_or_handed_on(self):
+        for path in FILES:
+            tree = parsed(path)
+            right = set()
+            for node in ast.walk(tree):
+                if isinstance(node, ast.Call) and called(node) in ("sorted", "len"):
+                    right |= set(node.args)
+                elif isinstance(node, ast.Assign):
+                    right.add(node.value)
+                elif isinstance(node, ast.Compare):
+                    right |= set(node.comparators)
+            for node in ast.walk(tree):
+                if isinstance(node, (ast.Set, ast.SetComp)) or isinstance(node, ast.Call) and called(node) == "set":
+                    self.assertTrue(node in right, (path.name, node.lineno))
+
+    def test_own_defs_are_handed_what_they_take(self):
+        for path in FILES:
+            tree = parsed(path)
+            takes = {part.name: len(part.args.args) for part in tree.body if isinstance(part, ast.FunctionDef)}
+            for node in tree.body:
+                if isinstance(node, ast.ImportFrom):
+                    source = parsed(PACKAGE / (node.module.removeprefix("hungwords.") + ".py"))
+                    drawn = [part.name for part in node.names]
+                    takes |= {part.name: len(part.args.args) for part in source.body
+                              if isinstance(part, ast.FunctionDef) and part.name in drawn}
+            for node in ast.walk(tree):
+                if isinstance(node, ast.Call) and isinstance(node.func, ast.Name) and node.func.id in takes:
+                    self.assertEqual(len(node.args), takes[node.func.id], (path.name, node.lineno))

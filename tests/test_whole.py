@@ -137,6 +137,14 @@ OBJECT_ASKS = [
         ("meet", (BARRED,)),
     ]),
 ]
+DEEDS = [
+    [("step", ("under",)), ("back", ()), ("step", ("next",)), ("step", ("read",)), ("back", ())],
+    [
+        ("put", (["x", "the"], (2, 0))), ("rehang", (0, 1, 3)), ("drop", (1,)), ("rename", (0, 2, "y")), ("back", ()),
+        ("rehang", (0, 1, 1)),
+    ],
+    [("step", (0, "next")), ("step", (1, "read")), ("back", ()), ("step", (0, "read")), ("step", (1, "next"))],
+]
 OBJECT_REFUSED = [
     (some_reader, [(NoStep, "step", ("back",))]),
     (some_book, [
@@ -145,6 +153,21 @@ OBJECT_REFUSED = [
     ]),
     (some_pair, [(NoStep, "step", (0, "under")), (Apart, "step", (0, "read"))]),
 ]
+
+
+def tried(thing, name, things):
+    """What a deed tells, or the class of its refusal."""
+    try:
+        return getattr(thing, name)(*things)
+    except HangError as error:
+        return type(error)
+
+
+def told_behind_each(thing, asks, deeds):
+    """The list of what each deed tells, with all that is told behind it."""
+    return [
+        (tried(thing, name, things), [tried(thing, ask, handed) for ask, handed in asks]) for name, things in deeds
+    ]
 
 
 def lists_in(thing):
@@ -234,6 +257,23 @@ class TellingTest(unittest.TestCase):
         words[0] = "x"
         words.append("y")
         self.assertEqual(book.entries(), [(0, ("the", "dog"), (2, 0))])
+
+    def test_objects_beside_each_other(self):
+        for (make, asks), deeds in zip(OBJECT_ASKS, DEEDS):
+            rows = deeds, deeds[1:] + deeds[:1]
+            due = [told_behind_each(make(), asks, row) for row in rows]
+            for order in itertools.product((0, 1), repeat=2 * len(deeds)):
+                if sum(order) == len(deeds):
+                    both, done = (make(), make()), [0, 0]
+                    for which in order:
+                        told = told_behind_each(both[which], asks, rows[which][done[which]:done[which] + 1])
+                        self.assertEqual(told, due[which][done[which]:done[which] + 1])
+                        done[which] += 1
+
+    def test_each_sheet_has_a_book_of_its_own(self):
+        text = "words a b\nput 2 0\nlearn\nplain"
+        self.assertEqual(run(text), ["0", "2: 2 0"])
+        self.assertEqual(run(text), ["0", "2: 2 0"])
 
     def test_deeds_of_which_nothing_is_told(self):
         reader, book, pair = some_reader(), some_book(), some_pair()

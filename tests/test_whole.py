@@ -270,6 +270,16 @@ class TellingTest(unittest.TestCase):
                         self.assertEqual(told, due[which][done[which]:done[which] + 1])
                         done[which] += 1
 
+    def test_twins_beside_their_first_ones(self):
+        for (make, asks), deeds in zip(OBJECT_ASKS, DEEDS):
+            due = told_behind_each(make(), asks, deeds)
+            first = make()
+            twin = first.twin()
+            self.assertIs(type(twin), type(first))
+            self.assertEqual(told_behind_each(first, asks, deeds), due)
+            self.assertEqual(told_behind_each(twin, asks, deeds), due)
+            self.assertEqual([twin.back() for _ in range(12)], [first.back() for _ in range(12)])
+
     def test_each_sheet_has_a_book_of_its_own(self):
         text = "words a b\nput 2 0\nlearn\nplain"
         self.assertEqual(run(text), ["0", "2: 2 0"])
